@@ -1,0 +1,1 @@
+"""Duetimes: works that come, and last times that are kept."""
