@@ -1,7 +1,7 @@
 """Crews: tasks and doors that share one hand."""
 
-from duetimes.errors import NoCrew, NoName, NoNumber, NoTool, TooMany
-from duetimes.members import Door, Task, is_name, is_whole
+from duetimes.errors import NoCrew, NoName, NoTool, TooMany
+from duetimes.members import Door, Task, is_name, must_be_whole
 
 LIMIT = 600
 MOST_STRETCH = 900
@@ -35,11 +35,32 @@ def cost_of(member):
     return member.room if isinstance(member, Door) else member.cost
 
 
+def due_of(member):
+    """The DUE of a task, the GAP of a door."""
+    return member.gap if isinstance(member, Door) else member.due
+
+
+def has_holds(member):
+    """Whether a member is a task that holds tools."""
+    return isinstance(member, Task) and len(member.holds) > 0
+
+
 def common_part(number, other):
     """The greatest number that divides both."""
     while other != 0:
         number, other = other, number % other
     return number
+
+
+def added(shares):
+    """All shares (TOP, BOTTOM) together, in lowest terms."""
+    top = 0
+    bottom = 1
+    for above, below in shares:
+        top = top * below + above * bottom
+        bottom = bottom * below
+    common = common_part(top, bottom)
+    return (top // common, bottom // common)
 
 
 class Crew:
@@ -81,18 +102,11 @@ class Crew:
 
     def load(self):
         """All COSTs by their GAPs together, as (TOP, BOTTOM) in lowest terms."""
-        top = 0
-        bottom = 1
-        for member in self.members:
-            top = top * member.gap + cost_of(member) * bottom
-            bottom = bottom * member.gap
-        common = common_part(top, bottom)
-        return (top // common, bottom // common)
+        return added([(cost_of(member), member.gap) for member in self.members])
 
     def stretch(self, *, most=LIMIT):
         """The least number from 1 on that all GAPs divide, up to MOST."""
-        if not is_whole(most, 1, MOST_STRETCH):
-            raise NoNumber(most)
+        must_be_whole(most, 1, MOST_STRETCH)
         many = 1
         for member in self.members:
             many = many // common_part(many, member.gap) * member.gap
@@ -121,3 +135,9 @@ class Crew:
 
     def __repr__(self):
         return f"Crew({', '.join(self.names())})"
+
+
+def must_be_crew(thing):
+    """Refuses what is no crew."""
+    if not isinstance(thing, Crew):
+        raise NoCrew(None)

@@ -9,10 +9,21 @@ MOST_GAP = 600
 MOST_HOLDS = 4
 
 
+def is_number(thing):
+    """Whether a thing of any kind is a whole number."""
+    # True and False are ints too, but no numbers here.
+    return isinstance(thing, int) and not isinstance(thing, bool)
+
+
 def is_whole(thing, least, most):
     """Whether a thing of any kind is a whole number from LEAST to MOST."""
-    # True and False are ints too, but no numbers here.
-    return isinstance(thing, int) and not isinstance(thing, bool) and least <= thing <= most
+    return is_number(thing) and least <= thing <= most
+
+
+def must_be_whole(thing, least, most):
+    """Refuses what is no whole number from LEAST to MOST."""
+    if not is_whole(thing, least, most):
+        raise NoNumber(thing)
 
 
 def is_name(thing):
@@ -48,20 +59,39 @@ def are_holds(thing, cost):
     return all([goes_ahead(hold, other) for hold, other in zip(thing, thing[1:])])
 
 
+def wrong_in_task(name, cost, gap, due, holds):
+    """The first part, of things of any kind, by which they make no task, or None."""
+    if not is_name(name):
+        return "name"
+    if not is_whole(cost, 1, MOST_COST):
+        return "cost"
+    if not is_whole(gap, 1, MOST_GAP):
+        return "gap"
+    if due is not None and not is_whole(due, 1, gap):
+        return "due"
+    if not are_holds(holds, cost):
+        return "holds"
+    return None
+
+
+def wrong_in_door(name, room, gap):
+    """The first part, of things of any kind, by which they make no door, or None."""
+    if not is_name(name):
+        return "name"
+    if not is_whole(room, 1, MOST_COST):
+        return "room"
+    if not is_whole(gap, 1, MOST_GAP):
+        return "gap"
+    return None
+
+
 class Task:
     """A member that sends works of at most COST moments, at least GAP apart, each due DUE behind its coming."""
 
     def __init__(self, name, cost, gap, *, due=None, holds=()):
-        if not is_name(name):
-            raise NoTask("name")
-        if not is_whole(cost, 1, MOST_COST):
-            raise NoTask("cost")
-        if not is_whole(gap, 1, MOST_GAP):
-            raise NoTask("gap")
-        if due is not None and not is_whole(due, 1, gap):
-            raise NoTask("due")
-        if not are_holds(holds, cost):
-            raise NoTask("holds")
+        part = wrong_in_task(name, cost, gap, due, holds)
+        if part is not None:
+            raise NoTask(part)
         self.name = name
         self.cost = cost
         self.gap = gap
@@ -70,8 +100,7 @@ class Task:
 
     def held(self, done):
         """The rising tuple of the tools that a work holds when DONE of its moments have been served."""
-        if not is_whole(done, 0, self.cost):
-            raise NoNumber(done)
+        must_be_whole(done, 0, self.cost)
         return tuple([tool for tool, start, long in self.holds if start < done < start + long])
 
     def __eq__(self, other):
@@ -100,12 +129,9 @@ class Door:
     """A member that lets comers in without a gap, served in portions of at most ROOM moments, GAP apart."""
 
     def __init__(self, name, room, gap):
-        if not is_name(name):
-            raise NoDoor("name")
-        if not is_whole(room, 1, MOST_COST):
-            raise NoDoor("room")
-        if not is_whole(gap, 1, MOST_GAP):
-            raise NoDoor("gap")
+        part = wrong_in_door(name, room, gap)
+        if part is not None:
+            raise NoDoor(part)
         self.name = name
         self.room = room
         self.gap = gap
