@@ -74,19 +74,18 @@ def needed_in(crew, long):
 
 
 def times_counted(crew, place, coming, other, end):
-    """How many works of member OTHER go ahead of a work of member PLACE and come ahead of END, its own ones all.
+    """How many works of member OTHER go ahead of a work of member PLACE, or are it, and come ahead of END.
 
-    That work comes COMING points behind the begin of a stretch without rest, at which all others come, and each GAP
-    again; its own ones come each GAP up to it, and it is counted itself.
+    That work comes COMING points, fewer than END, behind the begin of a stretch without rest. All others come at this
+    begin and each GAP again, its own ones each GAP up to it.
     """
     member = crew.members[other]
-    if other == place:
-        return coming // member.gap + 1
     last = coming + due_of(crew.members[place]) - due_of(member)
     if other > place:
         # Of those due at once the lesser number goes ahead.
         last -= 1
-    return max(0, min(last, end - 1) // member.gap + 1)
+    # No DUE is above its GAP, so this is 0, never less, where even the first one goes behind.
+    return min(last, end - 1) // member.gap + 1
 
 
 def needed_ahead(crew, place, coming, end):

@@ -202,11 +202,11 @@ def some_crew(random, *, most=4, gaps=(4, 5, 6, 8, 10, 12, 20), costs=4, doors=0
     return Crew(tuple(members))
 
 
-def some_rows(random, crew, *, until=60, slack=0.5):
-    """Rows that go to a crew, in any turn."""
+def some_rows(random, crew, *, until=60, slack=0.5, spread=9):
+    """Rows that go to a crew, in any turn; the first of each member by the moment SPREAD."""
     rows = []
     for member in crew.members:
-        moment = random.choice((0, 0, random.randint(0, 9)))
+        moment = random.choice((0, 0, random.randint(0, spread)))
         while moment <= until:
             if isinstance(member, Task):
                 rows.append((member.name, moment, random.choice((None, None, random.randint(1, member.cost)))))

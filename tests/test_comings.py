@@ -11,7 +11,7 @@ from duetimes.crews import Crew
 from duetimes.errors import NoComings, NoCrew, NoNumber, TimeError
 from duetimes.members import Door, Task
 from plain import some_crew, some_rows
-from things import HUGE, NO_NAMES, NO_WHOLES, OTHER_KINDS, Alike, Sore
+from things import HUGE, NO_NAMES, NO_WHOLES, OTHER_KINDS, Alike, Comparing, Sore
 
 SAW = Task("saw", 3, 10, due=8)
 OVEN = Task("oven", 5, 7, holds=(("t", 0, 5),))
@@ -332,14 +332,7 @@ class Joining(Asking):
             self.assertEqual(one.joined(other), Comings(crew, one.rows + other.rows))
 
 
-class AlikeComings(unittest.TestCase):
-    def compare(self, one, other, alike):
-        for left, right in ((one, other), (other, one)):
-            self.assertIs(left == right, alike)
-            self.assertIs(left != right, not alike)
-            self.assertIs(left in (right,), alike)
-            self.assertIs(left in ["other thing", right], alike)
-
+class AlikeComings(Comparing):
     def test_alike(self):
         self.compare(Comings(CREW), Comings(Crew((SAW, OVEN, SHOP)), ()), True)
         self.compare(Comings(CREW, ROWS), Comings(CREW, ORDERED), True)

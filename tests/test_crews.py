@@ -12,7 +12,7 @@ from duetimes.errors import (
     FullError, LostError, NoCrew, NoName, NoNumber, NoTool, TimeError, TooMany,
 )
 from duetimes.members import Door, Task
-from things import HUGE, NO_NAMES, NO_WHOLES, OTHER_KINDS, Alike, Sore
+from things import HUGE, NO_NAMES, NO_WHOLES, OTHER_KINDS, Alike, Comparing, Sore
 
 SAW = Task("saw", 2, 10, holds=(("t", 0, 2),))
 OVEN = Task("oven", 3, 15, due=12, holds=(("t", 0, 1), ("u", 1, 2)))
@@ -335,14 +335,7 @@ class Level(Crews):
         self.refuses_tool(Crew((SHOP,)), "t")
 
 
-class AlikeCrews(unittest.TestCase):
-    def compare(self, one, other, alike):
-        for left, right in ((one, other), (other, one)):
-            self.assertIs(left == right, alike)
-            self.assertIs(left != right, not alike)
-            self.assertIs(left in (right,), alike)
-            self.assertIs(left in ["other thing", right], alike)
-
+class AlikeCrews(Comparing):
     def test_alike(self):
         self.compare(Crew(), Crew(()), True)
         self.compare(Crew((Task("a", 1, 9), SHOP)), Crew((Task("a", 1, 9, due=9), Door("shop", 4, 20))), True)

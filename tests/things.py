@@ -1,4 +1,17 @@
-"""Things of many kinds that the tests hand in."""
+"""Things of many kinds that the tests hand in, and what they are compared by."""
+
+import unittest
+
+
+class Comparing(unittest.TestCase):
+    """Asks whether two are alike, in each way and from both sides."""
+
+    def compare(self, one, other, alike):
+        for left, right in ((one, other), (other, one)):
+            self.assertIs(left == right, alike)
+            self.assertIs(left != right, not alike)
+            self.assertIs(left in (right,), alike)
+            self.assertIs(left in ["other thing", right], alike)
 
 
 class Alike:
