@@ -2,6 +2,7 @@
 
 from duetimes.comings import Comings
 from duetimes.crews import LIMIT, cost_of, due_of, must_be_crew
+from duetimes.errors import Breaks
 from duetimes.members import Task, must_be_whole
 from duetimes.rule import levels_of, longest_hold
 
@@ -66,6 +67,13 @@ def lets_in(crew, *, most=LIMIT):
     if long is None:
         return ("in",)
     return ("breaks", long, breaking(crew, long))
+
+
+def must_be_let_in(crew, most):
+    """Refuses a crew that isn't let in."""
+    told = lets_in(crew, most=most)
+    if told[0] == "breaks":
+        raise Breaks(told[1], told[2])
 
 
 def needed_in(crew, long):

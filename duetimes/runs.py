@@ -1,7 +1,7 @@
 """Runs: what is served when, by comings that are played."""
 
 from duetimes.comings import Comings
-from duetimes.crews import cost_of
+from duetimes.crews import Crew, cost_of
 from duetimes.errors import NoComings, NoNumber
 from duetimes.members import Door, is_number, must_be_whole
 from duetimes.rule import Work, choose, levels_of
@@ -22,14 +22,15 @@ class Comer:
 
 
 class Side:
-    """What a hand knows of one member: how many came so far, who waits at its door, when a portion may come."""
+    """What a hand knows of one member: how many came so far, who waits at its door, when its next work may come."""
 
-    def __init__(self, member, place):
+    def __init__(self, member, place, *, sent=0, entered=0):
         self.member = member
         self.place = place
-        self.sent = 0
-        self.entered = 0
+        self.sent = sent
+        self.entered = entered
         self.queue = []
+        self.wanted = 0
         self.portion = None
         self.free_from = 0
 
@@ -44,23 +45,31 @@ class Hand:
         self.works = []
         self.waiting = []
         self.comers = []
+        self.over = []
         self.pieces = []
 
+    def change(self, sides):
+        """From now on it serves these members, among them all of which works wait."""
+        self.levels = levels_of(Crew(tuple([side.member for side in sides])))
+        self.sides = {side.member.name: side for side in sides}
+
     def let_come(self, name, need):
-        """A work of a task, or a comer at a door, comes now."""
+        """A work of a task, or a comer at a door, comes now; its number is told."""
         side = self.sides[name]
         if not isinstance(side.member, Door):
-            self.send(side, need)
-            return
+            return self.send(side, need).number
         comer = Comer(name, side.entered, self.now, need)
         side.entered += 1
         side.queue.append(comer)
+        side.wanted += need
         self.comers.append(comer)
+        return comer.number
 
     def send(self, side, need):
         """The next work of a member comes now; it is told."""
         work = Work(side.member, side.place, side.sent, self.now, need=need)
         side.sent += 1
+        side.free_from = self.now + side.member.gap
         self.works.append(work)
         self.waiting.append(work)
         return work
@@ -74,7 +83,6 @@ class Hand:
         for side in self.lacking():
             if side.free_from <= self.now:
                 side.portion = self.send(side, cost_of(side.member))
-                side.free_from = self.now + side.member.gap
 
     def portion_points(self):
         """The points, all ahead, at which portions come though nobody else does."""
@@ -84,8 +92,7 @@ class Hand:
         """How many moments more a work is served, if nobody else comes."""
         left = work.need - work.done
         if isinstance(work.member, Door):
-            waiting = self.sides[work.member.name].queue
-            left = min(left, sum([comer.left for comer in waiting]))
+            left = min(left, self.sides[work.member.name].wanted)
         return left
 
     def serve(self, stop):
@@ -99,7 +106,7 @@ class Hand:
             work.begins = self.now
         self.note_piece(work, moments)
         if isinstance(work.member, Door):
-            self.serve_comers(self.sides[work.member.name].queue, moments)
+            self.serve_comers(self.sides[work.member.name], moments)
         work.done += moments
         self.now += moments
         if self.left_of(work) == 0:
@@ -114,23 +121,25 @@ class Hand:
             start = self.pieces.pop()[0]
         self.pieces.append((start, self.now + moments, *row))
 
-    def serve_comers(self, queue, moments):
-        """Serves those who wait, one behind the other."""
+    def serve_comers(self, side, moments):
+        """Serves those who wait at a door, one behind the other."""
+        side.wanted -= moments
         point = self.now
         while moments > 0:
-            comer = queue[0]
+            comer = side.queue[0]
             share = min(comer.left, moments)
             comer.left -= share
             point += share
             moments -= share
             if comer.left == 0:
                 comer.ends = point
-                queue.pop(0)
+                side.queue.pop(0)
 
     def end(self, work):
         """A work is ended now."""
         work.ends = self.now
         self.waiting.remove(work)
+        self.over.append(work)
         side = self.sides[work.member.name]
         side.portion = None
 

@@ -2,8 +2,8 @@
 
 from duetimes.comings import Comings
 from duetimes.crews import LIMIT, MOST_STRETCH, has_holds, must_be_crew
-from duetimes.demand import lets_in, needed_ahead, needed_in, times_counted
-from duetimes.errors import Breaks, NoPlain, TooMuch
+from duetimes.demand import must_be_let_in, needed_ahead, needed_in, times_counted
+from duetimes.errors import NoPlain, TooMuch
 from duetimes.members import Door, must_be_whole
 
 
@@ -56,9 +56,7 @@ def must_be_plain(crew):
 def must_keep_doors(crew, most):
     """Refuses a crew that has a door and isn't let in: there portions may come later than each GAP."""
     if any([isinstance(member, Door) for member in crew.members]):
-        told = lets_in(crew, most=most)
-        if told[0] == "breaks":
-            raise Breaks(told[1], told[2])
+        must_be_let_in(crew, most)
 
 
 def worst(crew, name, *, most=LIMIT):

@@ -1,4 +1,4 @@
-"""A plain run that goes moment by moment, written apart from the package, and makers of crews and rows."""
+"""A plain run that goes moment by moment, a plain test of crews stretch by stretch, and makers of crews and rows."""
 
 from duetimes.crews import Crew
 from duetimes.members import Door, Task
@@ -173,6 +173,46 @@ class PlainRun:
             for who, done in self.moments[point][0]
             for tool in tools_at(self.crew.members[place(self.crew, who[0])], done)
         ]))
+
+
+def plain_demand(crew, long):
+    needed = 0
+    for member in crew.members:
+        moment = 0
+        while moment + due_of(member) <= long:
+            needed += cost_of(member)
+            moment += member.gap
+    return needed
+
+
+def plain_blocking(crew, long):
+    best = (0, None, None)
+    for member in crew.members:
+        if isinstance(member, Task) and member.due > long:
+            holding = [
+                any(level(crew, tool) <= long for tool in tools_at(member, done)) for done in range(member.cost + 1)
+            ]
+            for start in range(member.cost):
+                many = 0
+                while holding[start + many]:
+                    many += 1
+                if many > best[0]:
+                    best = (many, member.name, start)
+    return best
+
+
+def plain_least(crew, upto):
+    for long in range(1, upto + 1):
+        if plain_demand(crew, long) + plain_blocking(crew, long)[0] > long:
+            return long
+    return None
+
+
+def plain_stretch(crew):
+    long = 1
+    while any(long % member.gap for member in crew.members):
+        long += 1
+    return long
 
 
 def some_holds(random, cost, tools="tuv"):

@@ -10,7 +10,7 @@ from duetimes.crews import Crew
 from duetimes.demand import blocking, demand, lets_in
 from duetimes.errors import FullError, NoCrew, NoNumber, TimeError, TooMany
 from duetimes.members import Door, Task
-from plain import PlainRun, cost_of, due_of, level, some_crew, some_rows, tools_at
+from plain import PlainRun, cost_of, plain_blocking, plain_demand, plain_least, some_crew, some_rows
 from things import HUGE, NO_WHOLES
 
 SAW = Task("saw", 3, 10, due=8)
@@ -21,39 +21,6 @@ MOST = 10 ** 6
 
 SLOW = Task("slow", 6, 60, due=50, holds=(("t", 1, 4),))
 USER = Task("user", 2, 20, due=10, holds=(("t", 0, 1),))
-
-
-def plain_demand(crew, long):
-    needed = 0
-    for member in crew.members:
-        moment = 0
-        while moment + due_of(member) <= long:
-            needed += cost_of(member)
-            moment += member.gap
-    return needed
-
-
-def plain_blocking(crew, long):
-    best = (0, None, None)
-    for member in crew.members:
-        if isinstance(member, Task) and member.due > long:
-            holding = [
-                any(level(crew, tool) <= long for tool in tools_at(member, done)) for done in range(member.cost + 1)
-            ]
-            for start in range(member.cost):
-                many = 0
-                while holding[start + many]:
-                    many += 1
-                if many > best[0]:
-                    best = (many, member.name, start)
-    return best
-
-
-def plain_least(crew, upto):
-    for long in range(1, upto + 1):
-        if plain_demand(crew, long) + plain_blocking(crew, long)[0] > long:
-            return long
-    return None
 
 
 class Asking(unittest.TestCase):
