@@ -567,6 +567,17 @@ class Leaving(Asking):
             self.refuses_name(thing, gate.leave, thing)
         self.assertEqual(state(gate), before)
 
+    def test_no_name_while_somebody_is_to_be_in(self):
+        gate = Gate(Crew((SLOW, DOOR)))
+        gate.come("slow")
+        gate.go(2)
+        gate.leave("d")
+        self.assertEqual(gate.let_in(USER), "soon")
+        before = state(gate)
+        for thing in NO_NAMES + ("x", "d", USER):
+            self.refuses_name(thing, gate.leave, thing)
+        self.assertEqual(state(gate), before)
+
     def test_while_its_work_waits(self):
         both = Both(self, CREW)
         both.do("come", "b", None)
